@@ -64,6 +64,11 @@ def number_of(value):
     return value.number
 
 
+def is_point(value):
+    """Tell of any object whether it is a moment or Moment."""
+    return isinstance(value, Moment) or is_moment(value)
+
+
 def seconds_of(value):
     """The integer of a moment or Moment."""
     if isinstance(value, Moment):

@@ -21,6 +21,11 @@ LISTED = {
     "rules": {"Rule": "always never seldom word after __call__ __eq__"},
     "files": {"File": "__init__ __getitem__ marks do last latest held hold within double __eq__"},
     "ways": {"Way": "__init__ nodes arrows __getitem__ __len__ arrow __eq__"},
+    "rows": {"is_row": "", "rows": "", "file_at": ""},
+    "books": {"Book": "__init__ bound looks how day grain spares late again period __getitem__ __setitem__ change parts remade "
+                      "twin threshold __call__ __eq__ __le__ __lt__ __ge__ __gt__ careful hasty", "seen_age": ""},
+    "faults": {"is_fault": "", "faults": ""},
+    "seldom": {"ages_of_read": ""},
 }
 
 

@@ -58,9 +58,8 @@ def row_faults(way, rule, book, row):
 
 
 def spans(way, rule, book, row):
-    """For each step of a row but the last: its moment, the first one behind it at which
-    a look deletes, if it is ahead of the next step, the moment of this next step, and
-    the word of the arrow to it."""
+    """For each step but the last: its moment, the first one from it on at which a look deletes,
+    the moment of the next step, and the word of the arrow to it."""
     file = File(rule, way[row[0][0]], row[0][1])
     found = []
     for one, other in zip(row, row[1:]):
@@ -69,6 +68,7 @@ def spans(way, rule, book, row):
         word = way.arrow(one[0], other[0])[4]
         deletes = max(int(one[1]), book.due(file.latest(book.looks)))
         if word == "held" and book.spares:
+            # As late as this, no look ahead of the next step deletes.
             deletes = other[1]
         found.append((one[1], deletes, other[1], word))
     return found

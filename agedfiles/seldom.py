@@ -20,17 +20,20 @@ def ages_of_read(way, rule, node):
     # The way raises the same error for what is no number of a node.
     if way[node] != READ:
         raise NoWay("node", node)
-    ages = read_ages(way, rule.after)
-    return ages[node]
+    found = read_bits(way, rule.after)
+    return stretches_of(found[node])
 
 
-def read_ages(way, after):
-    """The dict from the reads to their ages."""
-    found = {}
-    for node, bits in read_bits(way, after).items():
-        pairs = [(age, age) for age in range(bits.bit_length()) if (bits >> age) & 1]
-        found[node] = Stretches(*pairs)
-    return found
+def stretches_of(bits):
+    """The set of the ages that the bits tell."""
+    pairs = [(age, age) for age in range(bits.bit_length()) if (bits >> age) & 1]
+    return Stretches(*pairs)
+
+
+def ends_of(bits):
+    """The least and the greatest age that the bits tell."""
+    lowest = bits & -bits
+    return (lowest.bit_length() - 1, bits.bit_length() - 1)
 
 
 def read_bits(way, after):

@@ -90,3 +90,73 @@ def faults_of_row(way, rule, book, row):
     gone = {at: deletes(way, rule, book, row, at) for at in moments}
     return [(row, at, then) for at in moments if gone[at] for then in range(at, min(at + book.late, row[-1][1] - 1) + 1)
             if used[then] and (gone[then] or not book.again)]
+
+
+def first_states(way, rule):
+    """The pairs (node, ages of the three marks) of all lives of one step."""
+    return {(node, ages_of(marks_after(rule, None, deed, 0))) for node, deed in enumerate(way.nodes())
+            if deed[0] in ("make", "unpack")}
+
+
+def next_states(way, rule, cap, states):
+    """The pairs of all lives that have one step more; ages of cap and more are cap."""
+    nodes, arrows = way.nodes(), way.arrows()
+    found = set()
+    for node, ages in states:
+        for start, goal, least, most, word in arrows:
+            if start == node and word != "anew":
+                for time in range(min(least, cap), min(most or cap, cap) + 1):
+                    marks = {mark: -age - time for mark, age in zip(MARKS, ages)}
+                    ages_then = ages_of(marks_after(rule, marks, nodes[goal], 0))
+                    found.add((goal, tuple(min(age, cap) for age in ages_then)))
+    return found
+
+
+def ages_of(marks):
+    return tuple(-marks[mark] for mark in MARKS)
+
+
+def states_of(way, rule, cap):
+    """The pairs of all lives, of any number of steps."""
+    found = states = first_states(way, rule)
+    while states:
+        states = next_states(way, rule, cap, states) - found
+        found = found | states
+    return found
+
+
+def latest_age(ages, looks):
+    return min(ages[MARKS.index(mark)] for mark in looks)
+
+
+def counts(book, arrow):
+    """Whether an arrow counts for a book."""
+    return {"": True, "held": not book.spares, "anew": book.late > 0 and not book.again}[arrow[4]]
+
+
+def seen_by_states(way, book, states, cap):
+    """The greatest seen age ahead of arrows that count; ages of cap and more count as endless."""
+    found = [-1]
+    for node, ages in states:
+        age = latest_age(ages, book.looks)
+        for arrow in way.arrows():
+            if arrow[0] == node and counts(book, arrow):
+                if arrow[3] is None or age >= cap:
+                    return None
+                found.append(age + arrow[3] - 1 + book.grain - 1)
+    return max(found)
+
+
+def fewest_steps(way, rule, book, cap, most=60):
+    """The fewest steps of a row with a fault, None if all have more than most."""
+    layers = [first_states(way, rule)]
+    needed = book.threshold() - book.grain + 2
+    for steps in range(2, most + 1):
+        for arrow in way.arrows():
+            behind = steps - 2 - (arrow[4] == "anew")
+            if counts(book, arrow) and behind >= 0:
+                ages = [latest_age(ages, book.looks) for node, ages in layers[behind] if node == arrow[0]]
+                if ages and (arrow[3] is None or max(ages) + arrow[3] >= needed):
+                    return steps
+        layers.append(next_states(way, rule, cap, layers[-1]))
+    return None

@@ -56,3 +56,20 @@ def some_uses(many, ends=True, seed=1, longest=4):
     """Some ways, rules and books, the same ones each time."""
     source = random.Random(seed)
     return [(some_way(source, ends, longest), source.choice(RULES), some_book(source)) for k in range(many)]
+
+
+def great_way(seed):
+    """Some way of 12 nodes and 40 arrows with times to 10 ** 9."""
+    source = random.Random(seed)
+    nodes = [MAKE] + [READ] * source.randint(3, 11)
+    nodes += [some_deed(source) for k in range(12 - len(nodes))]
+    pairs = [(0, 1)] + [(k, k + 1) for k in range(1, 11)] + [(11, 1)]
+    rest = [(start, goal) for start in range(12) for goal in range(1, 12) if (start, goal) not in pairs]
+    source.shuffle(rest)
+    arrows = []
+    for start, goal in pairs + rest[:28]:
+        least = source.choice([1, 2, 3, 7, 100, 1000, 10 ** 6])
+        most = source.choice([least, least, least + 1, least + 50, 10 ** 9, 10 ** 9])
+        arrows.append((start, goal, least, most, source.choice(["", "", "held"])))
+    source.shuffle(arrows)
+    return Way(nodes, arrows)

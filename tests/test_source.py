@@ -26,6 +26,9 @@ LISTED = {
                       "twin threshold __call__ __eq__ __le__ __lt__ __ge__ __gt__ careful hasty", "seen_age": ""},
     "faults": {"is_fault": "", "faults": ""},
     "seldom": {"ages_of_read": ""},
+    "ages": {"greatest_age": "", "least_age": ""},
+    "safety": {"greatest_seen": "", "is_safe": "", "least_bound": "", "safe_looks": ""},
+    "shortest": {"shortest_fault": ""},
 }
 
 

@@ -160,3 +160,67 @@ def fewest_steps(way, rule, book, cap, most=60):
                     return steps
         layers.append(next_states(way, rule, cap, layers[-1]))
     return None
+
+
+def stays_of(way, rule, book, many, most=None):
+    """All times from the last deeds of the lives of at most many steps to their being deleted."""
+    found = set()
+    for start in range(book.grain):
+        for row in [row for steps in range(1, many + 1) for row in lives_of(way, steps, start, most)]:
+            for phase in range(book.period):
+                found |= stays_of_life(way, rule, book, row, phase)
+    return found
+
+
+def stays_of_life(way, rule, book, row, phase):
+    """The times from the last deed of a life to its being deleted, for looks of a phase."""
+    last = at = row[-1][1]
+    while at % book.period != phase or not deletes(way, rule, book, row, at):
+        at += 1
+    # Nothing is done any more: a second look finds the file as the first one did.
+    return {then - last for then in range(at, at + book.late + 1) if not book.again or deletes(way, rule, book, row, then)}
+
+
+def is_right(way, rule, book, paper, far=200):
+    """Whether a paper whose form is right is right; ages of far and more are taken for one, and so for no end."""
+    word, ages, reads = paper
+    sets = {node: {n for low, high in pairs for n in range(low, far + 1 if high is None else high + 1)} for node, pairs in reads}
+    return (all(is_right_age(way, rule, ages, sets, row) for row in ages)
+            and all(is_right_read(way, rule, sets, node, far) for node in sets)
+            and all(arrow[3] is not None and any(
+                start == arrow[0] and set(some) <= set(book.looks) and m + arrow[3] - 1 + book.grain - 1 < book.threshold()
+                for start, some, m in ages) for arrow in way.arrows() if counts(book, arrow)))
+
+
+def is_right_age(way, rule, ages, sets, row):
+    node, looks, n = row
+    deed = way.nodes()[node]
+    back = deed[1] if len(deed) == 2 else 0
+    hit = {"make": {"read": 0, "written": 0, "changed": 0}, "touch": {"read": 0, "written": 0, "changed": 0},
+           "write": {"written": 0, "changed": 0}, "rename": {"changed": 0},
+           "unpack": {"read": 0, "written": back, "changed": 0}, "setback": {"read": back, "written": back, "changed": 0},
+           "read": {"read": 0} if rule.word == "always" else {}}[deed[0]]
+    rest = set(looks) - set(hit)
+    if any(n >= hit[mark] for mark in looks if mark in hit):
+        return True
+    if deed[0] == "read" and rule.word == "seldom" and "read" in looks and node in sets and max(sets[node]) <= n:
+        return True
+    return deed[0] not in ("make", "unpack") and rest != set() and all(
+        arrow[3] is not None and any(start == arrow[0] and set(some) <= rest and m + arrow[3] <= n for start, some, m in ages)
+        for arrow in way.arrows() if arrow[1] == node and arrow[4] != "anew")
+
+
+def is_right_read(way, rule, sets, node, far):
+    for start, goal, least, most, word in way.arrows():
+        if goal == node and way.nodes()[start] != ("read",):
+            if 0 not in sets[node]:
+                return False
+        elif goal == node:
+            if start not in sets:
+                return False
+            sums = {age + time for age in sets[start] for time in range(min(least, far), min(most or far, far) + 1)}
+            if not {n for n in sums if n < rule.after} <= sets[node]:
+                return False
+            if any(n >= rule.after for n in sums) and 0 not in sets[node]:
+                return False
+    return True

@@ -29,6 +29,10 @@ LISTED = {
     "ages": {"greatest_age": "", "least_age": ""},
     "safety": {"greatest_seen": "", "is_safe": "", "least_bound": "", "safe_looks": ""},
     "shortest": {"shortest_fault": ""},
+    "stays": {"stay": ""},
+    "compare": {"parting": ""},
+    "papers": {"paper_of": ""},
+    "checker": {"is_paper": ""},
 }
 
 

@@ -33,6 +33,11 @@ LISTED = {
     "compare": {"parting": ""},
     "papers": {"paper_of": ""},
     "checker": {"is_paper": ""},
+    "changes": {"Menu": "__init__ made __len__", "least_sets": ""},
+    "texts": {name: "" for name in "show_rule read_rule show_deed read_deed show_book read_book show_way read_way".split()},
+    "sessions": {"Session": "__init__ __getitem__ __setitem__ keep remove __contains__ __len__ names book rule take_book take_rule "
+                            "change safe unsafe_names trial within trying"},
+    "console": {"Console": "__init__ session say"},
 }
 
 
